@@ -12,7 +12,7 @@ import (
 type part interface {
 	// takeOut makes the place zero, so that only what no line names is left, and tells whether what stood there may be written.
 	takeOut() bool
-	// written is the words behind which the part's own stand.
+	// written answers the words with the part's own behind them.
 	written(words []string) []string
 	// read lays the first words in place, and answers those behind them.
 	read(words []string) ([]string, bool)
